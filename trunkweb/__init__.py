@@ -1,0 +1,1 @@
+"""Trunkweb: network design."""

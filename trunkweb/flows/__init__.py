@@ -1,0 +1,1 @@
+"""Flows and cuts."""

@@ -1,0 +1,1 @@
+"""Networks, their texts, and paths in them."""
