@@ -3,7 +3,7 @@
 from trunkweb.errors import BadVertex
 from trunkweb.flows.residual import greatest_within, is_within, limits_of, outflows, room_moves, side_capacity
 from trunkweb.networks.checks import is_ascending, need_two, need_vertex
-from trunkweb.networks.moves import listed, reached, turned
+from trunkweb.networks.moves import flags_of, listed, reached, turned
 
 
 def is_flow(network, start, goal, flow, arcs):
@@ -20,14 +20,12 @@ def out_of(network, vertex, flow, arcs):
 
 def capacity(network, side, arcs):
     """Return the capacity of an ascending list of vertices."""
-    inside = [False] * network.size()
     last = -1
     for vertex in side:
         if not last < vertex < network.size():
             raise BadVertex(vertex)
-        inside[vertex] = True
         last = vertex
-    return side_capacity(network, inside, arcs)
+    return side_capacity(network, flags_of(network.size(), side), arcs)
 
 
 def is_side(network, start, goal, side):

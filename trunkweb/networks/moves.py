@@ -52,6 +52,14 @@ def listed(flags):
     return [index for index, flag in enumerate(flags) if flag]
 
 
+def flags_of(many, indexes):
+    """Return a list of flags that says True at the given indexes, and False elsewhere."""
+    flags = [False] * many
+    for index in indexes:
+        flags[index] = True
+    return flags
+
+
 def blocks(rows):
     """Return the classes of vertices that reach each other, if each move can be gone back."""
     found = []

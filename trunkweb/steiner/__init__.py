@@ -1,0 +1,1 @@
+"""Steiner trees and Steiner arborescences."""

@@ -1,0 +1,1 @@
+"""Spanning forests and arborescences."""
