@@ -1,5 +1,7 @@
 """Cut trees (points 210 and 211)."""
 
+import random
+
 from tests.cases import Case
 from tests.samples import MILLION, great_network, reach, side_capacity, sides, small_networks
 from trunkweb.errors import BadEdge, BadVertex, OutOfRange, SameVertex
@@ -160,3 +162,25 @@ class Checks(Case):
                 passed += expected
                 self.assertIs(self.steady(check_tree, network, tree, other), expected)
         self.assertGreater(passed, 50)
+
+    def test_trees_with_greatest_flows_that_are_no_cut_trees(self):
+        dice = random.Random(87)
+        missed = 0
+        for network in small_networks(87, 80, (3, 6), (4, 10)):
+            size = network.size()
+            for _ in range(4):
+                ends = [(v, dice.randrange(v)) for v in range(1, size)]
+                known = [greatest_flow(network, u, v, False) for u, v in ends]
+                tree = [(u, v, told[0]) for (u, v), told in zip(ends, known)]
+                flows = [told[1] for told in known]
+                expected = self.holds(network, tree, flows)
+                missed += not expected
+                self.assertIs(check_tree(network, tree, flows), expected)
+        self.assertGreater(missed, 50)
+
+    def test_one_triple_too_many(self):
+        network = Network(3, [(0, 1, 4)])
+        tree, flows = cut_tree(network)
+        at = [weight for _, _, weight in tree].index(0)
+        self.assertFalse(check_tree(network, tree + [tree[at]], flows + [flows[at]]))
+        self.assertFalse(check_tree(network, [tree[at]] * 2, [flows[at]] * 2))

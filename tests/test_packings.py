@@ -99,7 +99,8 @@ class Packings(Case):
                 rows, near = self.look_at(network, 1, arcs)
                 value = sum(amount for amount, _ in rows)
                 changed = [rows, [], rows + rows, rows[1:], rows + [(1, [])], rows + [(0, [])], rows[::-1]]
-                changed += [rows + [(1, path)] for path in simple_paths(network, 0, 1, arcs)]
+                for path in simple_paths(network, 0, 1, arcs):
+                    changed += [rows + [(1, path)], rows + [(0, path)], rows + [(-1, path)]]
                 for k, (amount, path) in enumerate(rows):
                     for other in (amount - 1, amount + 1, 0, -amount):
                         changed.append(rows[:k] + [(other, path)] + rows[k + 1:])
@@ -148,6 +149,15 @@ class Disjoint(Case):
         for seed in range(4):
             for arcs in BOTH:
                 self.look_at(great_network(58 + seed), 39, arcs)
+
+    def test_a_path_that_must_give_way(self):
+        # The shortest path from 0 to 5 takes an edge that no two paths can go without.
+        network = Network(8, [(0, 1, 1), (1, 4, 1), (4, 5, 1), (0, 2, 1), (2, 3, 1), (3, 4, 1), (1, 6, 1), (6, 7, 1),
+                              (7, 5, 1)])
+        for arcs in BOTH:
+            paths, edges = self.look_at(network, 5, arcs)
+            self.assertEqual((sorted(paths), edges), ([[0, 6, 7, 8], [3, 4, 5, 2]], [0, 3]))
+            self.assertEqual(sorted(packing(network, 0, 5, arcs)), [(1, [0, 6, 7, 8]), (1, [3, 4, 5, 2])])
 
     def test_prices_play_no_part(self):
         network = Network(2, [(0, 1, 0), (1, 0, 9), (0, 1, 5)])

@@ -74,9 +74,8 @@ class Network:
         """Return a network with another price of an edge."""
         if not 0 <= number < len(self._edges):
             raise BadEdge(number)
-        if not is_price(price):
-            raise BadPrice(number)
         edges = list(self._edges)
         u, v, _ = edges[number]
         edges[number] = (u, v, price)
+        # All else is good: so the new network raises BadPrice for this edge, or nothing.
         return Network(self._size, edges)

@@ -20,5 +20,5 @@ def told_weights(edges):
 
 def told_numbers(weight, many):
     """Return the ascending list of the edges, of this many, whose set has this weight."""
-    bits = (-weight) & ((1 << many) - 1)
-    return [number for number in range(many) if (bits >> (many - 1 - number)) & 1 == 1]
+    # The lowest bits of the negative weight are just those that the weights of the edges take off.
+    return [number for number in range(many) if ((-weight) >> (many - 1 - number)) & 1 == 1]

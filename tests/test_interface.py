@@ -1,0 +1,66 @@
+"""The interface: each name stands in its module, with its arguments, and is defined there."""
+
+import importlib
+import inspect
+import unittest
+
+from trunkweb.networks.network import Network
+
+FUNCTIONS = {
+    "trunkweb.networks.texts": ["write_network(network)", "read_network(text)"],
+    "trunkweb.networks.paths": [
+        "least_prices(network, start, arcs)", "told_path(network, start, goal, arcs)",
+        "check_path(network, start, goal, path, numbers, arcs)", "distances(network)", "components(network)"],
+    "trunkweb.flows.flow": [
+        "is_flow(network, start, goal, flow, arcs)", "out_of(network, vertex, flow, arcs)",
+        "capacity(network, side, arcs)", "greatest_flow(network, start, goal, arcs)",
+        "near_side(network, start, goal, arcs)", "far_side(network, start, goal, arcs)",
+        "check_flow(network, start, goal, flow, side, arcs)"],
+    "trunkweb.flows.tight": ["tight_edges(network, start, goal, arcs)", "bottlenecks(network, start, goal, arcs)"],
+    "trunkweb.flows.packings": [
+        "packing(network, start, goal, arcs)", "check_packing(network, start, goal, rows, side, arcs)",
+        "disjoint_paths(network, start, goal, arcs)", "check_disjoint(network, start, goal, paths, edges, arcs)"],
+    "trunkweb.flows.costs": [
+        "cheapest_flow(network, capacities, start, goal, amount)",
+        "check_cheapest(network, capacities, start, goal, flow, potentials)",
+        "cost_steps(network, capacities, start, goal)"],
+    "trunkweb.flows.cuttrees": [
+        "cut_tree(network)", "check_tree(network, tree, flows)", "tree_side(size, tree, number)",
+        "least_between(size, tree, one, two)", "least_cut(network)"],
+    "trunkweb.trees.spanning": [
+        "told_forest(network)", "forest_price(network, numbers)", "check_forest(network, numbers)",
+        "count_forests(network)", "count_least_forests(network)"],
+    "trunkweb.trees.arborescences": [
+        "told_arborescence(network, root)", "cut_off(network, root)", "packing(network, root)",
+        "check_arborescence(network, root, numbers, pairs)"],
+    "trunkweb.steiner.trees": [
+        "told_tree(network, terminals)", "tree_table(network, terminals)",
+        "check_tree(network, terminals, tree, table)", "check_no_tree(network, terminals, table)",
+        "price_of(network, numbers)"],
+    "trunkweb.steiner.arborescences": [
+        "told_arborescence(network, root, terminals)", "arborescence_table(network, root, terminals)",
+        "check_arborescence(network, root, terminals, arcs, table)",
+        "check_no_arborescence(network, root, terminals, table)"],
+}
+METHODS = [
+    "size(self)", "edges(self)", "around(self, vertex)", "leaving(self, vertex)", "entering(self, vertex)",
+    "other_end(self, number, vertex)", "with_price(self, number, price)",
+]
+
+
+class Interface(unittest.TestCase):
+    def test_functions(self):
+        for module, calls in FUNCTIONS.items():
+            for call in calls:
+                with self.subTest(f"{module}.{call}"):
+                    made = getattr(importlib.import_module(module), call.partition("(")[0])
+                    self.assertTrue(inspect.isfunction(made))
+                    self.assertEqual(made.__module__, module)
+                    self.assertEqual(made.__name__ + str(inspect.signature(made)), call)
+
+    def test_methods(self):
+        self.assertEqual(str(inspect.signature(Network)), "(size, edges)")
+        for call in METHODS:
+            with self.subTest(call):
+                made = vars(Network)[call.partition("(")[0]]
+                self.assertEqual(made.__name__ + str(inspect.signature(made)), call)
