@@ -4,6 +4,7 @@ import copy
 import unittest
 
 from trunkweb.networks.network import Network
+from trunkweb.programs.program import Program
 
 
 class Case(unittest.TestCase):
@@ -21,10 +22,10 @@ class Case(unittest.TestCase):
         before = [keep(value) for value in given]
         first = call(*given)
         self.assertEqual([keep(value) for value in given], before)
-        kept = copy.deepcopy(first)
+        kept = keep(first)
         spoil(first)
         second = call(*given)
-        self.assertEqual(second, kept)
+        self.assertEqual(keep(second), kept)
         self.assertEqual([keep(value) for value in given], before)
         return second
 
@@ -33,6 +34,10 @@ def keep(value):
     """Return a copy of a value that can be compared."""
     if isinstance(value, Network):
         return value.size(), value.edges()
+    if isinstance(value, Program):
+        return value.prices(), value.rows()
+    if isinstance(value, (list, tuple)):
+        return type(value)(keep(item) for item in value)
     return copy.deepcopy(value)
 
 

@@ -5,6 +5,7 @@ import inspect
 import unittest
 
 from trunkweb.networks.network import Network
+from trunkweb.programs.program import Program
 
 FUNCTIONS = {
     "trunkweb.networks.texts": ["write_network(network)", "read_network(text)"],
@@ -41,10 +42,30 @@ FUNCTIONS = {
         "told_arborescence(network, root, terminals)", "arborescence_table(network, root, terminals)",
         "check_arborescence(network, root, terminals, arcs, table)",
         "check_no_arborescence(network, root, terminals, table)"],
+    "trunkweb.steiner.reductions": [
+        "reduction(network, terminals)", "check_reduction(network, terminals, rows)",
+        "rest_of(network, terminals, rows)", "lead_back(origins, numbers)"],
+    "trunkweb.programs.fractions": [
+        "fraction(numerator, denominator)", "is_fraction(pair)", "plus(first, second)", "minus(first, second)",
+        "times(first, second)", "over(first, second)", "is_less(first, second)", "floor(pair)", "ceiling(pair)",
+        "added(fractions)"],
+    "trunkweb.programs.program": ["is_solution(program, values)", "value_of(program, values)"],
+    "trunkweb.programs.judges": [
+        "are_fit(program, multipliers)", "loads(program, multipliers)", "gain(program, multipliers)",
+        "check_least(program, value, values, multipliers)", "check_none(program, multipliers)",
+        "check_endless(program, values, ray)", "is_vertex(program, values)"],
+    "trunkweb.cases.bounds": [
+        "case_bound(program, fixing, multipliers)", "shows_none(program, fixing, multipliers)",
+        "closes(program, fixing, multipliers, value, told)"],
+    "trunkweb.cases.trees": [
+        "fulfils(program, told)", "price_of(program, told)", "check_first(program, value, told, tree)",
+        "check_no_list(program, tree)"],
 }
-METHODS = [
-    "size(self)", "edges(self)", "around(self, vertex)", "leaving(self, vertex)", "entering(self, vertex)",
-    "other_end(self, number, vertex)", "with_price(self, number, price)",
+CLASSES = [
+    (Network, "(size, edges)", [
+        "size(self)", "edges(self)", "around(self, vertex)", "leaving(self, vertex)", "entering(self, vertex)",
+        "other_end(self, number, vertex)", "with_price(self, number, price)"]),
+    (Program, "(prices, rows)", ["count(self)", "prices(self)", "rows(self)"]),
 ]
 
 
@@ -59,8 +80,9 @@ class Interface(unittest.TestCase):
                     self.assertEqual(made.__name__ + str(inspect.signature(made)), call)
 
     def test_methods(self):
-        self.assertEqual(str(inspect.signature(Network)), "(size, edges)")
-        for call in METHODS:
-            with self.subTest(call):
-                made = vars(Network)[call.partition("(")[0]]
-                self.assertEqual(made.__name__ + str(inspect.signature(made)), call)
+        for known, given, calls in CLASSES:
+            self.assertEqual(str(inspect.signature(known)), given)
+            for call in calls:
+                with self.subTest(call):
+                    made = vars(known)[call.partition("(")[0]]
+                    self.assertEqual(made.__name__ + str(inspect.signature(made)), call)

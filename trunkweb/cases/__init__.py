@@ -1,0 +1,1 @@
+"""Programs whose variables are 0 or 1, by cases."""

@@ -1,0 +1,1 @@
+"""Fractions, linear programs, and how they are solved."""
