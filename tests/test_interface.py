@@ -45,6 +45,17 @@ FUNCTIONS = {
     "trunkweb.steiner.reductions": [
         "reduction(network, terminals)", "check_reduction(network, terminals, rows)",
         "rest_of(network, terminals, rows)", "lead_back(origins, numbers)"],
+    "trunkweb.forests.forests": [
+        "told_forest(network, pairs)", "forest_table(network, pairs)", "check_forest(network, pairs, forest, table)",
+        "check_no_forest(network, pairs, table)"],
+    "trunkweb.forests.moats": [
+        "total(moats)", "are_good(network, pairs, moats)", "are_good_for_prizes(network, root, prizes, moats)"],
+    "trunkweb.forests.growing": [
+        "quick_forest(network, pairs)", "check_quick_forest(network, pairs, forest, moats)"],
+    "trunkweb.forests.prizes": [
+        "cost(network, root, prizes, choice)", "told_choice(network, root, prizes)",
+        "choice_table(network, root, prizes)", "check_choice(network, root, prizes, choice, table)",
+        "quick_choice(network, root, prizes)", "check_quick_choice(network, root, prizes, choice, moats)"],
     "trunkweb.programs.fractions": [
         "fraction(numerator, denominator)", "is_fraction(pair)", "plus(first, second)", "minus(first, second)",
         "times(first, second)", "over(first, second)", "is_less(first, second)", "floor(pair)", "ceiling(pair)",
@@ -54,6 +65,10 @@ FUNCTIONS = {
         "are_fit(program, multipliers)", "loads(program, multipliers)", "gain(program, multipliers)",
         "check_least(program, value, values, multipliers)", "check_none(program, multipliers)",
         "check_endless(program, values, ray)", "is_vertex(program, values)"],
+    "trunkweb.programs.simplex": ["solve(program)"],
+    "trunkweb.programs.cutting": [
+        "cut_bound(network, arcs, root, terminals)",
+        "check_cut_bound(network, arcs, root, terminals, bound, certificate)"],
     "trunkweb.cases.bounds": [
         "case_bound(program, fixing, multipliers)", "shows_none(program, fixing, multipliers)",
         "closes(program, fixing, multipliers, value, told)"],

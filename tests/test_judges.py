@@ -158,6 +158,14 @@ class NoneAndEndless(Case):
         program = Program([1, 1], [([1, 0], "most", 5)])
         self.assertIs(self.endless(program, [(0, 1), (0, 1)], [(-1, 1), (0, 1)]), False)
 
+    def test_a_ray_with_noughts(self):
+        program = Program([-1, 1, 0], [([-1, 0, 1], "most", 5)])
+        start = [(0, 1)] * 3
+        self.assertIs(self.endless(program, start, [(1, 9), (0, 1), (0, 1)]), True)
+        self.assertIs(self.endless(program, start, [(1, 9), (0, 1), (-1, 9)]), False)
+        self.assertIs(self.endless(program, start, [(1, 9), (1, 9), (0, 1)]), False)
+        self.assertIs(self.endless(program, start, [(0, 1), (0, 1), (0, 1)]), False)
+
     def test_a_ray_with_rows_equal(self):
         program = Program([-1, 0], [([1, -1], "equal", 3)])
         self.assertIs(self.endless(program, [(3, 1), (0, 1)], [(1, 2), (1, 2)]), True)

@@ -269,6 +269,8 @@ class Reasons(Case):
         self.assertIs(self.told(network, [2], ("longer", 0, [0, 0, 0])), False)
         self.assertIs(self.told(network, [3], ("longer", 0, [2])), False)
         self.assertIs(self.told(network, [3], ("longer", 0, [1, 2])), False)
+        self.assertIs(self.told(network, [3], ("longer", 0, [1])), False)
+        self.assertIs(self.told(network, [3], ("longer", 0, [2, 4])), False)
         self.assertIs(self.told(network, [3], ("longer", 0, [2, 1, 1])), False)
         self.assertIs(self.told(network, [3], ("longer", 3, [2])), True)
         self.assertIs(self.told(network, [3], ("longer", 2, [3])), False)
@@ -276,6 +278,24 @@ class Reasons(Case):
             self.assertIs(self.told(network, [3], ("longer", number, [2, 1])), False)
             self.assertIs(self.told(network, [3], ("longer", 0, [2, number])), False)
             self.assertIs(self.told(network, [3], ("longer", 0, [number, 2, 1])), False)
+
+    def test_walks_that_are_no_paths(self):
+        # The prices are numbers of vertices, too.
+        network = Network(4, [(0, 1, 9), (1, 2, 0), (2, 1, 0), (1, 3, 2), (2, 3, 1)])
+        for walk in ([], [1], [2], [3], [4], [1, 1], [3, 4, 1], [4, 3], [2, 2, 2]):
+            self.assertIs(self.told(network, [3], ("longer", 0, walk)), False)
+        dice = random.Random(257)
+        for network, terminals in samples(257, 300, (3, 5), (3, 8), (3, 9)):
+            for _ in range(20):
+                walk = dice.choices(range(-1, len(network.edges()) + 1), k=dice.randint(0, 3))
+                self.told(network, terminals, ("longer", dice.randrange(len(network.edges())), walk))
+
+    def test_numbers_from_the_end_are_none(self):
+        network = Network(2, [(0, 1, 5), (1, 0, 5)])
+        self.assertIs(self.told(network, [0], ("longer", 0, [1])), True)
+        for row in (("longer", 0, [-1]), ("longer", -1, [0]), ("longer", -2, [1]), ("longer", 1, [-2]),
+                    ("leaf", -1), ("leaf", -2)):
+            self.assertIs(self.told(network, [0], row), False)
 
     def test_longer_with_edges_that_are_gone(self):
         network = Network(4, [(0, 1, 5), (1, 2, 3), (2, 0, 2), (2, 0, 2)])

@@ -6,6 +6,11 @@ numbers that stand in one of them alone.
 """
 
 
+def told_scale(many):
+    """Return what each 1 of a price weighs, if there are this many edges."""
+    return (many + 1) << many
+
+
 def told_weights(edges):
     """Return a weight above 0 for each edge; no two sets of edges weigh the same."""
     many = len(edges)
@@ -13,8 +18,7 @@ def told_weights(edges):
     for number, edge in enumerate(edges):
         # The price decides ahead of the number of edges, and both ahead of the numbers themselves,
         # of which each one outweighs all later ones.
-        high = edge[2] * (many + 1) + 1
-        weights.append((high << many) - (1 << (many - 1 - number)))
+        weights.append(edge[2] * told_scale(many) + (1 << many) - (1 << (many - 1 - number)))
     return weights
 
 

@@ -1,0 +1,1 @@
+"""Steiner forests, moats, and choices with prizes."""
