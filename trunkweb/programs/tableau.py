@@ -51,8 +51,8 @@ class Tableau:
     def fulfil(self):
         """Make all variables fulfil their rows; return None, or the index of a line that none fulfil.
 
-        The first goal must be at its lowest as far as the lines are fulfilled; it is so again behind
-        this (the dual simplex method).
+        No number of the first goal's line is above 0 before, nor behind this, but for rooms that are fixed:
+        so its value is least as soon as all rows are fulfilled (the dual simplex method).
         """
         by_number = False
         while True:
@@ -69,7 +69,7 @@ class Tableau:
     def descend(self):
         """Make the last goal's value least; return None, or a column along which it has no least value.
 
-        All variables must fulfil their rows; they do so again behind this (the simplex method).
+        All variables must fulfil their rows before, and do so behind this (the simplex method).
         """
         by_number = False
         while True:
