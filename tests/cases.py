@@ -4,6 +4,7 @@ import copy
 import unittest
 
 from trunkweb.networks.network import Network
+from trunkweb.places.order import Order
 from trunkweb.programs.program import Program
 
 
@@ -36,6 +37,8 @@ def keep(value):
         return value.size(), value.edges()
     if isinstance(value, Program):
         return value.prices(), value.rows()
+    if isinstance(value, Order):
+        return value.openings(), value.ways()
     if isinstance(value, (list, tuple)):
         return type(value)(keep(item) for item in value)
     return copy.deepcopy(value)

@@ -5,6 +5,7 @@ import inspect
 import unittest
 
 from trunkweb.networks.network import Network
+from trunkweb.places.order import Order
 from trunkweb.programs.program import Program
 
 FUNCTIONS = {
@@ -75,12 +76,24 @@ FUNCTIONS = {
     "trunkweb.cases.trees": [
         "fulfils(program, told)", "price_of(program, told)", "check_first(program, value, told, tree)",
         "check_no_list(program, tree)"],
+    "trunkweb.cases.search": ["first_best(program)"],
+    "trunkweb.cases.covers": [
+        "cover_program(size, sets)", "quick_cover(size, sets)", "cover_factor(size, sets)",
+        "check_shares(size, sets, taken, shares)", "cover_bound(size, sets, shares)"],
+    "trunkweb.places.growth": ["grow(order)", "is_fair(order, dual)", "dual_sum(dual)"],
+    "trunkweb.places.cases": [
+        "told_opening(order)", "opening_cases(order)", "check_opening(order, numbers, tree)"],
+    "trunkweb.places.choices": [
+        "told_choice(order, most)", "choice_cost(order, numbers)", "choice_cases(order, most)",
+        "check_choice(order, most, numbers, tree)"],
 }
 CLASSES = [
     (Network, "(size, edges)", [
         "size(self)", "edges(self)", "around(self, vertex)", "leaving(self, vertex)", "entering(self, vertex)",
         "other_end(self, number, vertex)", "with_price(self, number, price)"]),
     (Program, "(prices, rows)", ["count(self)", "prices(self)", "rows(self)"]),
+    (Order, "(network, sites, clients)", [
+        "openings(self)", "ways(self)", "cost(self, numbers)", "goes(self, numbers)"]),
 ]
 
 

@@ -63,3 +63,52 @@ class Fulfilling(Case):
                 if not good:
                     break
         self.assertGreater(min(counts), 100)
+
+
+class Changing(Case):
+    def values(self, tableau):
+        """The values behind fulfilling all rows, as integers where they are, or None."""
+        return tableau.fulfil() is None and [n if d == 1 else (n, d) for n, d in tableau.solution()]
+
+    def test_copies_go_on_by_themselves(self):
+        rows = [([-1, -1], "most", -3), ([1, 0], "most", 2)]
+        tableau = tableau_of([1, 2], rows)
+        self.assertEqual(self.values(tableau), [2, 1])
+        other = tableau.copy()
+        other.add_row([0, -1], -2, False)
+        other.fix(0)
+        self.assertEqual(self.values(other), [0, 3])
+        self.assertEqual(self.values(tableau), [2, 1])
+        tableau.add_row([-1, 0], -5, False)
+        self.assertIs(self.values(tableau), False)
+        self.assertEqual(self.values(other), [0, 3])
+
+    def test_what_is_fixed_is_0(self):
+        rows = [([-1, -1], "most", -3), ([1, 0], "most", 2), ([0, 1], "most", 2)]
+        for number, told in ((0, False), (1, False), (2, [2, 1]), (3, [2, 1]), (4, [1, 2])):
+            tableau = tableau_of([1, 2], rows)
+            tableau.fulfil()
+            tableau.fix(number)
+            self.assertEqual(self.values(tableau), told)
+
+    def test_rows_that_are_dropped(self):
+        rows = [([-1, -1], "most", -3), ([1, 0], "most", 2), ([-1, -2], "most", -1), ([0, 1], "most", 9)]
+        tableau = tableau_of([1, 2], rows)
+        self.assertEqual(self.values(tableau), [2, 1])
+        tableau.drop_rows(4)
+        self.assertEqual(self.values(tableau), [2, 1])
+        # The first two rows hold with equality; the other two are no more, but their numbers stay taken.
+        self.assertEqual(tableau.goal_weights(), [(2, 1), (1, 1), (0, 1), (0, 1)])
+        tableau.add_row([0, -1], -20, False)
+        self.assertEqual(self.values(tableau), [0, 20])
+        self.assertEqual(tableau.goal_weights()[-1], (2, 1))
+
+    def test_only_rows_behind_a_number_are_dropped(self):
+        tableau = tableau_of([1, 2], [([1, 0], "most", 2), ([0, 1], "most", 2)])
+        tableau.drop_rows(3)
+        tableau.add_row([0, -1], -5, False)
+        self.assertEqual(self.values(tableau), [0, 5])
+        tableau = tableau_of([1, 2], [([1, 0], "most", 2), ([0, 1], "most", 2)])
+        tableau.drop_rows(4)
+        tableau.add_row([0, -1], -5, False)
+        self.assertIs(self.values(tableau), False)

@@ -37,6 +37,31 @@ class Tableau:
         self._goals = [[-price for price in prices] + [0] for prices in goals]
         self._fixed = [False] * self._many
 
+    def copy(self):
+        """Return an independent tableau with the same rows and goals."""
+        made = Tableau([[0] * self._many])
+        # Lines are never changed, but replaced: so both tableaus may have the same ones.
+        made._scale = self._scale
+        made._free = list(self._free)
+        made._basic = list(self._basic)
+        made._lines = list(self._lines)
+        made._goals = list(self._goals)
+        made._fixed = list(self._fixed)
+        return made
+
+    def fix(self, number):
+        """Fix a variable or a room to 0; `fulfil` makes the others fulfil their rows then."""
+        self._fixed[number] = True
+
+    def drop_rows(self, first):
+        """Drop the rows whose rooms, numbered from `first` on, are above 0; their numbers stay taken."""
+        kept = [
+            at for at, (number, line) in enumerate(zip(self._basic, self._lines))
+            if number < first or line[-1] == 0
+        ]
+        self._basic = [self._basic[at] for at in kept]
+        self._lines = [self._lines[at] for at in kept]
+
     def add_row(self, numbers, bound, is_fixed):
         """Add a row; say whether its room is fixed to 0."""
         line = [0 if variable >= self._many else self._scale * numbers[variable] for variable in self._free]
@@ -115,7 +140,7 @@ class Tableau:
 
     def _room_weights(self, line):
         """Return the numbers of a line for the rooms that are free, as fractions; 0 for the others."""
-        weights = [(0, 1)] * len(self._lines)
+        weights = [(0, 1)] * (len(self._fixed) - self._many)
         for variable, number in zip(self._free, line):
             if variable >= self._many:
                 weights[variable - self._many] = fraction(number, self._scale)

@@ -1,0 +1,1 @@
+"""Places for facilities."""
