@@ -6,6 +6,7 @@ import unittest
 
 from trunkweb.networks.network import Network
 from trunkweb.places.order import Order
+from trunkweb.prices.session import Session
 from trunkweb.programs.program import Program
 
 FUNCTIONS = {
@@ -86,6 +87,22 @@ FUNCTIONS = {
     "trunkweb.places.choices": [
         "told_choice(order, most)", "choice_cost(order, numbers)", "choice_cases(order, most)",
         "check_choice(order, most, numbers, tree)"],
+    "trunkweb.multicuts.isolating": [
+        "isolating_cut(network, terminals, number)", "check_isolating(network, terminals, number, flow, side)",
+        "group_value(network, groups, number, flow)"],
+    "trunkweb.multicuts.multiway": [
+        "price_of(network, labels)", "quick_multiway(network, terminals)", "multiway_bound(network, terminals)",
+        "check_bound(network, terminals, flows, bound)", "least_multiway(network, terminals)",
+        "check_multiway(network, terminals, labels, price, paper)"],
+    "trunkweb.multicuts.parts": [
+        "quick_parts(network, k)", "parts_bound(network, k)", "least_parts(network, k)",
+        "check_parts(network, k, labels, price, paper)"],
+    "trunkweb.multicuts.vertices": [
+        "least_vertex_cut(network, weights, start, goal)", "nearest_vertex_cut(network, weights, start, goal)",
+        "check_vertex_cut(network, weights, start, goal, cut, rows)", "connectivity(network)", "weakest(network)"],
+    "trunkweb.prices.tasks": [
+        "answer(network, task)", "least_price(network, task)", "serves(network, task, numbers)"],
+    "trunkweb.prices.ranges": ["price_range(network, task, number)", "rival(network, task, number)"],
 }
 CLASSES = [
     (Network, "(size, edges)", [
@@ -94,6 +111,9 @@ CLASSES = [
     (Program, "(prices, rows)", ["count(self)", "prices(self)", "rows(self)"]),
     (Order, "(network, sites, clients)", [
         "openings(self)", "ways(self)", "cost(self, numbers)", "goes(self, numbers)"]),
+    (Session, "(network, tasks)", [
+        "set_price(self, number, price)", "answers(self)", "prices(self)", "network(self)", "undo(self)",
+        "copy(self)"]),
 ]
 
 

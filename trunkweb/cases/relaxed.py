@@ -81,10 +81,9 @@ class Relaxed:
     def _multipliers(self, weights):
         """Return the multipliers of the program's rows, from the weights of the rooms in the tableau."""
         multipliers = [(0, 1)] * len(self._rows)
+        # A row that was dropped and came back stands more than once; its last room is the present one.
         for row, (numerator, denominator) in zip(self._used, weights[len(self._mirrored):]):
-            # A row that was dropped and came back stands twice, and only one of its rooms has a weight.
-            if numerator != 0:
-                multipliers[row] = (self._rows[row][3] * numerator, denominator)
+            multipliers[row] = (self._rows[row][3] * numerator, denominator)
         return multipliers
 
 

@@ -44,8 +44,9 @@ class ChoiceJudge:
         if len(open_sites) == self._most:
             # No more sites may be opened: so each of them may be as dear as what all clients would spare.
             charge = sum(nearest(self._ways, open_sites))
+        # So the charge is 0, or it is paid for no site: nothing is taken off the sum.
         dual = raised(case, self._ways, [charge] * self._many)
-        if sum(dual) - charge * (self._most - len(open_sites)) < self._cost:
+        if sum(dual) < self._cost:
             return None
         return ("bound", (charge, 1), [(amount, 1) for amount in dual])
 

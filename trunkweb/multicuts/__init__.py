@@ -1,0 +1,1 @@
+"""Multiway cuts, cuts into parts, and vertex cuts."""

@@ -1,0 +1,1 @@
+"""Tasks in networks whose prices change."""
