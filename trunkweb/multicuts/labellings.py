@@ -6,7 +6,7 @@ from trunkweb.programs.fractions import ceiling, fraction
 
 
 class LabellingJudge:
-    """Says what papers show of labellings: that one with a price is the told one, or None for no such one."""
+    """Says what papers show of labellings: that a list is the told one, and has a price."""
 
     def __init__(self, network, terminals, told, price):
         self._network = network
@@ -54,7 +54,7 @@ class LabellingJudge:
             return ("end",)
         return ("cases", [self.ending(first + labels)])
 
-    def paper(self, first, flows):
+    def paper_from(self, first, flows):
         """Return a paper that is accepted for the first labels, made from group flows for fewer of them."""
         if all([vertex in self._terminals for vertex in range(len(first), self._network.size())]):
             # Here no flow is needed: so such papers stay small.
@@ -66,7 +66,7 @@ class LabellingJudge:
         after = [flow for _, flow in greatest]
         if is_enough(first, number, self._told, self._price):
             return ("bound", [list(flow) for flow in after])
-        return ("cases", [self.paper(first + [label], after) for label in self.next_labels(first)])
+        return ("cases", [self.paper_from(first + [label], after) for label in self.next_labels(first)])
 
 
 def neighbours_of(network):

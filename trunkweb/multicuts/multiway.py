@@ -62,7 +62,7 @@ def least_multiway(network, terminals):
     labels = told_labelling(network, terminals)
     price = price_of(network, labels)
     nothing = [0] * len(network.edges())
-    paper = LabellingJudge(network, terminals, labels, price).paper([], [nothing for _ in terminals])
+    paper = LabellingJudge(network, terminals, labels, price).paper_from([], [nothing for _ in terminals])
     return price, labels, paper
 
 

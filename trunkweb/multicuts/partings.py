@@ -14,7 +14,7 @@ def are_few(size, first, many):
 
 
 class PartingJudge:
-    """Says what papers show of partings into k parts: that one with a price is the told one."""
+    """Says what papers show of partings into `many` parts: that a list is the told one, and has a price."""
 
     def __init__(self, network, many, told, price):
         self._size = network.size()
