@@ -41,10 +41,11 @@ def is_fair_in(case, ways, prices, dual):
 
 
 def step_of(row, amount, limit, left):
-    """Return by how much a client may be raised at once, None if nothing stops it.
+    """Return by how much a client may be raised at once.
 
     `row` has its ways to the free sites, `left` what is left of their prices; the limit is its least way
     to an open site, None if there is none. It stops at the next way, too, where another site begins to count.
+    There is a free site, or a limit.
     """
     stops = [way - amount for way in row if way > amount]
     stops = stops + [rest for way, rest in zip(row, left) if way <= amount]
